@@ -1,0 +1,1 @@
+"""Ownlog: rows that tell how they were made."""

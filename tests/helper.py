@@ -1,0 +1,158 @@
+"""What several tests share: plain, slow ways to the same answers, and the document's examples as code."""
+
+import copy
+import random
+
+from ownlog.errors import OwnError
+
+LETTERS = "abcdefghijklmnopqrstuvwxyz"
+
+
+class Stubborn:
+    """A value that cannot be shown, compared, measured or told true or false."""
+
+    def _refuse(self, *rest):
+        raise RuntimeError("this value does nothing")
+
+    __repr__ = __str__ = __eq__ = __ne__ = __lt__ = __len__ = __bool__ = __format__ = _refuse
+    __hash__ = None
+
+
+def other_things():
+    """Values that are no integer, letter, row, tally or story."""
+    return [
+        None, True, False, b"", b"a", b"abc", (), ("a", 1), ("a",), (1, 2), {}, {"a": 1}, {0: 0},
+        set(), {0}, {"a"}, frozenset({1}), range(2), object(), Stubborn(), len, str, int, OwnError,
+        lambda: 0, iter([0]), bytearray(b"ab"), [[]], [None], [[0]], [()], [""], ["a", "b"], ["ab"], [{}],
+        [b"a"], [Stubborn()],
+    ]
+
+
+def written(row, calls):
+    """The row that the calls make, written letter by letter after the document's words."""
+    for place in calls:
+        x, a, y = row[:place], row[place], row[place + 1:]
+        row = x + x + a + y + y
+    return row
+
+
+def pieces(last, called):
+    """After a call: for each of the pieces x, x, a, y, y, where it starts, its old start, its length."""
+    after = last - called
+    return [
+        (0, 0, called),
+        (called, 0, called),
+        (2 * called, called, 1),
+        (2 * called + 1, called + 1, after),
+        (2 * called + 1 + after, called + 1, after),
+    ]
+
+
+def old_place(last, called, place):
+    """The place of the row before the call that a place of the new row repeats, by the pieces."""
+    for start, old, many in pieces(last, called):
+        if start <= place < start + many:
+            return old + place - start
+    raise AssertionError("no such place")
+
+
+def far_origins(row, calls, place):
+    """The places that show one another, by the pieces of each call."""
+    found = [place]
+    for at in reversed(range(len(calls))):
+        found.append(old_place((len(row) - 1) * 2 ** at, calls[at], found[-1]))
+    return found
+
+
+def far_letter(row, calls, place):
+    """The letter at a place of a long row, by the pieces of each call."""
+    return row[far_origins(row, calls, place)[-1]]
+
+
+def far_count(row, calls, marked, stop):
+    """How many places before stop descend from a marked place of the row, by the pieces of each call."""
+    kept = {}
+
+    def count(many, upto):
+        if upto == 0:
+            return 0
+        if many == 0:
+            return len([place for place in marked if place < upto])
+        if (many, upto) not in kept:
+            last = (len(row) - 1) * 2 ** (many - 1)
+            total = 0
+            for start, old, length in pieces(last, calls[many - 1]):
+                taken = min(length, max(0, upto - start))
+                if taken > 0:
+                    total += count(many - 1, old + taken) - count(many - 1, old)
+            kept[many, upto] = total
+        return kept[many, upto]
+
+    return count(len(calls), stop)
+
+
+def random_row(chance, most=8, letters=3):
+    """A row of 2 to most letters, from the first letters of the alphabet."""
+    return "".join(chance.choice(LETTERS[:letters]) for _ in range(chance.randint(2, most)))
+
+
+def random_story(chance, row, many):
+    """A story of so many calls, the ends and their neighbours among them often."""
+    story = []
+    last = len(row) - 1
+    for _ in range(many):
+        edges = [0, 1, last - 1, last, last // 2]
+        story.append(chance.choice(edges) if chance.random() < 0.4 else chance.randint(0, last))
+        last = 2 * last
+    return story
+
+
+def chance(seed):
+    """A source of numbers that are the same at each run."""
+    return random.Random(seed)
+
+
+def shown_error(error):
+    """An error as the document writes it: its class and its fields."""
+    names = {"Wrong": "place", "NoPlace": "place", "NoCall": "at", "TooLong": "limit", "TooMany": "limit",
+             "NoNumber": "number", "NoLetter": "at", "NotCalled": "many", "Several": "many",
+             "NoTwins": "at", "NoText": "at"}
+    name = type(error).__name__
+    field = repr(getattr(error, names[name])) if name in names else ""
+    return f"{name}({field})"
+
+
+def answer(statement, names):
+    """What the document prints under a statement: the value as repr writes it, or the error."""
+    try:
+        value = eval(statement, names)
+    except OwnError as error:
+        return "raises " + shown_error(error)
+    return repr(value)
+
+
+def failed_examples(text):
+    """Run examples as the document prints them; list those that do not hold."""
+    names = {}
+    lines = text.strip("\n").split("\n")
+    failed = []
+    at = 0
+    while at < len(lines):
+        statement = lines[at].removeprefix(">>> ")
+        at += 1
+        if at < len(lines) and not lines[at].startswith(">>> "):
+            told = answer(statement, names)
+            if told != lines[at]:
+                failed.append((statement, lines[at], told))
+            at += 1
+        else:
+            exec(statement, names)
+    return failed
+
+
+def same_after(test, function, *arguments):
+    """Call the function and see that it left its arguments as they were; return what it returned."""
+    before = copy.deepcopy(arguments)
+    result = function(*arguments)
+    test.assertEqual(arguments, before)
+    return result

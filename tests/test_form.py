@@ -1,0 +1,103 @@
+"""The interface and the form of the package: what can be seen without running it."""
+
+import ast
+import inspect
+import pathlib
+import unittest
+from importlib import import_module
+
+ROOT = pathlib.Path(__file__).resolve().parent.parent
+FOLDER = ROOT / "ownlog"
+
+FUNCTIONS = {
+    "kinds": ["is_integer(thing)", "is_letter(thing)", "is_row(thing)", "is_tally(thing)",
+              "is_text(thing, most)", "is_story(last, thing)"],
+    "rows": ["call(row, place)", "follow(row, calls)"],
+}
+METHODS = {}
+
+
+def files():
+    return sorted(FOLDER.iterdir())
+
+
+def trees():
+    return [(path.name, ast.parse(path.read_text(encoding="utf-8"))) for path in files() if path.suffix == ".py"]
+
+
+def defined(body):
+    return [node.name for node in body if isinstance(node, (ast.FunctionDef, ast.ClassDef))]
+
+
+class Interface(unittest.TestCase):
+
+    def test_functions_stand_in_their_files(self):
+        for name, listed in FUNCTIONS.items():
+            module = import_module("ownlog." + name)
+            own = defined(ast.parse((FOLDER / (name + ".py")).read_text(encoding="utf-8")).body)
+            for told in listed:
+                function = told.partition("(")[0]
+                self.assertIn(function, own)
+                self.assertEqual(function + str(inspect.signature(getattr(module, function))), told)
+
+    def test_methods_stand_in_their_classes(self):
+        for (name, kind), listed in METHODS.items():
+            tree = ast.parse((FOLDER / (name + ".py")).read_text(encoding="utf-8"))
+            body = [node for node in tree.body if isinstance(node, ast.ClassDef) and node.name == kind][0].body
+            methods = {node.name: ast.unparse(node.args) for node in body if isinstance(node, ast.FunctionDef)}
+            for told in listed:
+                method, _, rest = told.partition("(")
+                self.assertEqual(methods[method], rest.removesuffix(")"))
+
+
+class Form(unittest.TestCase):
+
+    def test_the_folder_holds_python_files_only(self):
+        names = [path.name for path in files() if path.name != "__pycache__"]
+        self.assertEqual([name for name in names if not name.endswith(".py")], [])
+        self.assertIn("__init__.py", names)
+
+    def test_sizes_and_characters(self):
+        for path in files():
+            if path.suffix == ".py":
+                text = path.read_text(encoding="utf-8")
+                lines = text.split("\n")
+                self.assertLessEqual(len(lines), 399, path.name)
+                self.assertLessEqual(max(len(line) for line in lines), 120, path.name)
+                self.assertEqual([sign for sign in text if sign != "\n" and not " " <= sign <= "~"], [], path.name)
+
+    def test_functions_are_small(self):
+        for name, tree in trees():
+            for node in ast.walk(tree):
+                if isinstance(node, ast.FunctionDef):
+                    self.assertLessEqual(node.end_lineno - node.lineno + 1, 40, (name, node.name))
+
+    def test_imports_are_of_the_package_and_not_in_a_circle(self):
+        imports = {}
+        for name, tree in trees():
+            found = [node for node in ast.walk(tree) if isinstance(node, (ast.Import, ast.ImportFrom))]
+            self.assertTrue(all(isinstance(node, ast.ImportFrom) and node.level == 0 for node in found), name)
+            self.assertTrue(all(node in tree.body for node in found), name)
+            imports["ownlog." + name.removesuffix(".py")] = [node.module for node in found]
+            for node in found:
+                self.assertTrue(node.module.startswith("ownlog."), (name, node.module))
+                body = ast.parse((ROOT / (node.module.replace(".", "/") + ".py")).read_text(encoding="utf-8")).body
+                constants = [item.targets[0].id for item in body if isinstance(item, ast.Assign)]
+                for alias in node.names:
+                    self.assertIn(alias.name, defined(body) + constants)
+        done = []
+        while len(done) < len(imports):
+            ready = [name for name in imports if name not in done and set(imports[name]) <= set(done)]
+            self.assertNotEqual(ready, [], "imports in a circle")
+            done += ready
+
+    def test_words_that_the_language_leaves_out(self):
+        left_out = (ast.Lambda, ast.GeneratorExp, ast.AsyncFunctionDef, ast.Global, ast.Div, ast.Try)
+        for name, tree in trees():
+            for node in ast.walk(tree):
+                self.assertNotIsInstance(node, left_out, name)
+                self.assertFalse(isinstance(node, ast.Constant) and isinstance(node.value, float), name)
+
+
+if __name__ == "__main__":
+    unittest.main()
