@@ -69,26 +69,24 @@ def far_letter(row, calls, place):
     return row[far_origins(row, calls, place)[-1]]
 
 
-def far_count(row, calls, marked, stop):
-    """How many places before stop descend from a marked place of the row, by the pieces of each call."""
+def far_counter(row, calls, marked):
+    """The function that counts the places before a stop which descend from a marked place of the row."""
     kept = {}
 
-    def count(many, upto):
-        if upto == 0:
-            return 0
+    def count(many, stop):
         if many == 0:
-            return len([place for place in marked if place < upto])
-        if (many, upto) not in kept:
+            return len([place for place in marked if place < stop])
+        if (many, stop) not in kept:
             last = (len(row) - 1) * 2 ** (many - 1)
             total = 0
             for start, old, length in pieces(last, calls[many - 1]):
-                taken = min(length, max(0, upto - start))
+                taken = min(length, stop - start)
                 if taken > 0:
                     total += count(many - 1, old + taken) - count(many - 1, old)
-            kept[many, upto] = total
-        return kept[many, upto]
+            kept[many, stop] = total
+        return kept[many, stop]
 
-    return count(len(calls), stop)
+    return lambda stop: count(len(calls), stop)
 
 
 def random_row(chance, most=8, letters=3):

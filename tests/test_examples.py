@@ -27,6 +27,44 @@ EXAMPLES = {
 >>> follow('abc', [1, 5])
 raises NoCall(1)
 """,
+    24: """
+>>> from ownlog.maps import shown, showing
+>>> [shown(2, 1, 0), shown(2, 1, 1), shown(2, 1, 2), shown(2, 1, 3), shown(2, 1, 4), showing(2, 1, 0), showing(2, 1, 1)]
+[0, 0, 1, 2, 2, [0, 1], [2]]
+""",
+    30: """
+>>> from ownlog.far import Far
+>>> far = Far('abc', [1, 3])
+>>> [far.length(), far.letter(4), far.origins(7), far.piece(2, 4), far.called(), far.after(0).length()]
+[9, 'a', [7, 4, 2], 'baab', 'bc', 17]
+>>> Far('ab', [1] * 64).length()
+18446744073709551617
+""",
+    31: """
+>>> from ownlog.far import Far
+>>> from ownlog.reading import count_before, letter_place
+>>> far = Far('abc', [1, 3])
+>>> [count_before(far, 'a', 5), letter_place(far, 'a', 2), letter_place(far, 'c', 0)]
+[4, 3, 6]
+""",
+    32: """
+>>> from ownlog.far import Far
+>>> from ownlog.reading import copies, copy_at
+>>> far = Far('abc', [1, 3])
+>>> [copies(far, 0), copies(far, 1), copies(far, 2), copy_at(far, 1, 1)]
+[4, 2, 3, 5]
+""",
+    40: """
+>>> from ownlog.tallies import tally, tally_after
+>>> [tally('abc'), tally_after(tally('abc'), 'bc')]
+[[('a', 1), ('b', 1), ('c', 1)], [('a', 4), ('b', 2), ('c', 3)]]
+""",
+    41: """
+>>> from ownlog.tallies import called, most_called, tally_before
+>>> late = [('a', 4), ('b', 2), ('c', 3)]
+>>> [tally_before(late), most_called(late), called(late, 2)]
+[('c', [('a', 2), ('b', 1), ('c', 2)]), 2, 'bc']
+""",
 }
 
 

@@ -1,0 +1,91 @@
+"""Long rows, which are read without being written."""
+
+from ownlog.errors import NoPlace, TooLong, TooMany, Wrong
+from ownlog.kinds import MOST_CALLS, MOST_LETTERS, is_row, is_story
+from ownlog.maps import shown
+
+
+def shown_places(last, calls, place):
+    """Return a place of the row that the calls have made, and what it shows before each of them, the last call first.
+
+    last is the last place of the row that the calls have made.
+    """
+    places = [place]
+    last_then = last
+    place_then = place
+    for called in reversed(calls):
+        # A call doubles the last place, so this is the last place before it.
+        last_then = last_then // 2
+        place_then = shown(last_then, called, place_then)
+        places.append(place_then)
+    return places
+
+
+class Far:
+    """The long row to which a row leads by a story."""
+
+    def __init__(self, row, story):
+        if not is_row(row):
+            raise Wrong(0)
+        if not is_story(len(row) - 1, story):
+            raise Wrong(1)
+        self._row = row
+        self._story = list(story)
+
+    def __eq__(self, other):
+        return isinstance(other, Far) and self._row == other._row and self._story == other._story
+
+    def __repr__(self):
+        return f"Far({self._row!r}, {self._story!r})"
+
+    def row(self):
+        """Return the row that leads to the long row."""
+        return self._row
+
+    def story(self):
+        """Return the calls that lead to the long row."""
+        return list(self._story)
+
+    def length(self):
+        """Return the number of letters of the long row."""
+        return self._last_after(len(self._story)) + 1
+
+    def letter(self, place):
+        """Return the letter at a place of the long row."""
+        return self._row[self.origins(place)[-1]]
+
+    def origins(self, place):
+        """Return the place, and the places before each call that it shows, down to the row."""
+        self._check_place(place)
+        return shown_places(self.length() - 1, self._story, place)
+
+    def piece(self, start, many):
+        """Return the text of so many letters from the place start on."""
+        if many > MOST_LETTERS:
+            raise TooLong(MOST_LETTERS)
+        if start + many > self.length():
+            raise NoPlace(start)
+        return "".join([self.letter(place) for place in range(start, start + many)])
+
+    def called(self):
+        """Return the called letters, in the order of the calls."""
+        letters = []
+        for at, place in enumerate(self._story):
+            places = shown_places(self._last_after(at), self._story[:at], place)
+            letters.append(self._row[places[-1]])
+        return "".join(letters)
+
+    def after(self, place):
+        """Return the Far with one more call."""
+        self._check_place(place)
+        if len(self._story) >= MOST_CALLS:
+            raise TooMany(MOST_CALLS)
+        return Far(self._row, self._story + [place])
+
+    def _last_after(self, many):
+        """Return the last place after the first so many calls."""
+        return (len(self._row) - 1) << many
+
+    def _check_place(self, place):
+        if not 0 <= place < self.length():
+            raise NoPlace(place)
