@@ -21,6 +21,15 @@ def shown_places(last, calls, place):
     return places
 
 
+def called_letters(row, calls):
+    """Return the letters of the row that the calls choose, in their order."""
+    letters = []
+    for at, place in enumerate(calls):
+        places = shown_places((len(row) - 1) << at, calls[:at], place)
+        letters.append(row[places[-1]])
+    return "".join(letters)
+
+
 class Far:
     """The long row to which a row leads by a story."""
 
@@ -48,7 +57,7 @@ class Far:
 
     def length(self):
         """Return the number of letters of the long row."""
-        return self._last_after(len(self._story)) + 1
+        return ((len(self._row) - 1) << len(self._story)) + 1
 
     def letter(self, place):
         """Return the letter at a place of the long row."""
@@ -69,11 +78,7 @@ class Far:
 
     def called(self):
         """Return the called letters, in the order of the calls."""
-        letters = []
-        for at, place in enumerate(self._story):
-            places = shown_places(self._last_after(at), self._story[:at], place)
-            letters.append(self._row[places[-1]])
-        return "".join(letters)
+        return called_letters(self._row, self._story)
 
     def after(self, place):
         """Return the Far with one more call."""
@@ -81,10 +86,6 @@ class Far:
         if len(self._story) >= MOST_CALLS:
             raise TooMany(MOST_CALLS)
         return Far(self._row, self._story + [place])
-
-    def _last_after(self, many):
-        """Return the last place after the first so many calls."""
-        return (len(self._row) - 1) << many
 
     def _check_place(self, place):
         if not 0 <= place < self.length():

@@ -4,25 +4,27 @@ from ownlog.errors import NoNumber, NoPlace
 
 
 class Marks:
-    """The places of a long row that descend from some places of the row of a Far.
+    """The places that descend from some places of a row, while calls make it longer.
 
     For each call it keeps the called place, the last place before the call, and of the row before the call:
     how many of these places are less than the called one, whether that is one of them (1 or 0), and how many
     there are. So each question takes one walk back through the calls.
     """
 
-    def __init__(self, far, places):
-        """Take the ascending places of the row of a Far."""
+    def __init__(self, row, places):
+        """Take the ascending places of a row."""
+        self._last = len(row) - 1
         self._places = list(places)
         self._steps = []
         self._total = len(places)
-        last = len(far.row()) - 1
-        for called in far.story():
-            before = self.before(called)
-            here = self.before(called + 1) - before
-            self._steps.append((called, last, before, here, self._total))
-            self._total = 2 * self._total - here
-            last = 2 * last
+
+    def call(self, place):
+        """Do a call of a place of the row made by now."""
+        before = self.before(place)
+        here = self.before(place + 1) - before
+        self._steps.append((place, self._last, before, here, self._total))
+        self._total = 2 * self._total - here
+        self._last = 2 * self._last
 
     def total(self):
         """Return how many there are."""
@@ -56,16 +58,31 @@ class Marks:
         return distance + self._places[number_then]
 
 
+def row_marks(row, letter):
+    """Return the places of the row with a letter."""
+    return Marks(row, [place for place, own in enumerate(row) if own == letter])
+
+
+def follow_story(marks, story):
+    """Do the calls of a story to the marks."""
+    for place in story:
+        marks.call(place)
+
+
 def letter_marks(far, letter):
     """Return the places of the long row with a letter."""
-    return Marks(far, [place for place, own in enumerate(far.row()) if own == letter])
+    marks = row_marks(far.row(), letter)
+    follow_story(marks, far.story())
+    return marks
 
 
 def place_marks(far, place):
     """Return the places of the long row that descend from a place of the row."""
     if not 0 <= place < len(far.row()):
         raise NoPlace(place)
-    return Marks(far, [place])
+    marks = Marks(far.row(), [place])
+    follow_story(marks, far.story())
+    return marks
 
 
 def before_stop(far, marks, stop):

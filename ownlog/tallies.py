@@ -10,7 +10,7 @@ def tally(row):
 
 def far_tally(far):
     """Return the tally of the long row of a Far."""
-    return tally_after(tally(far.row()), far.called())
+    return tally_made(far.row(), far.called())
 
 
 def tally_after(tally, letters):
@@ -23,6 +23,11 @@ def tally_after(tally, letters):
     for chosen in letters:
         result = [(letter, 2 * number - int(letter == chosen)) for letter, number in result]
     return result
+
+
+def tally_made(row, letters):
+    """Return the tally of what calls of these letters make of a row."""
+    return tally_after(tally(row), letters)
 
 
 def last_called(tally):

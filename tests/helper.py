@@ -69,6 +69,46 @@ def far_letter(row, calls, place):
     return row[far_origins(row, calls, place)[-1]]
 
 
+def all_stories(row, calls):
+    """All stories of so many calls, in ascending order, each with the row to which it leads."""
+    found = [([], row)]
+    for _ in range(calls):
+        found = [(story + [place], written(late, [place])) for story, late in found for place in range(len(late))]
+    return found
+
+
+def counted(row):
+    """The tally of a row, letter by letter of the alphabet."""
+    return [(letter, row.count(letter)) for letter in LETTERS if row.count(letter) > 0]
+
+
+def plain_elders(row):
+    """The elders of a row with their places: for each place, x + a + y read from the pieces x, x, a, y, y."""
+    if len(row) % 2 == 0:
+        return []
+    last = len(row) // 2
+    found = {}
+    for place in range(last + 1):
+        older = row[:place] + row[2 * place] + row[2 * place + 1:place + last + 1]
+        if written(older, [place]) == row:
+            found.setdefault(older, []).append(place)
+    return sorted(found.items(), key=lambda item: item[1])
+
+
+def plain_pasts(row):
+    """All pasts of a row, over all elders and all their places."""
+    found = plain_elders(row)
+    if not found:
+        return [(row, [])]
+    return sorted((seed, story + [place]) for older, places in found for seed, story in plain_pasts(older)
+                  for place in places)
+
+
+def changed(row, place, letter="q"):
+    """The row with another letter at a place."""
+    return row[:place] + ("r" if row[place] == letter else letter) + row[place + 1:]
+
+
 def far_counter(row, calls, marked):
     """The function that counts the places before a stop which descend from a marked place of the row."""
     kept = {}
@@ -118,6 +158,15 @@ def shown_error(error):
     name = type(error).__name__
     field = repr(getattr(error, names[name])) if name in names else ""
     return f"{name}({field})"
+
+
+def refusal(function, *arguments, **named):
+    """The error that a call of the function raises, as the document writes it, or None."""
+    try:
+        function(*arguments, **named)
+    except OwnError as error:
+        return shown_error(error)
+    return None
 
 
 def answer(statement, names):

@@ -65,6 +65,35 @@ raises NoCall(1)
 >>> [tally_before(late), most_called(late), called(late, 2)]
 [('c', [('a', 2), ('b', 1), ('c', 2)]), 2, 'bc']
 """,
+    42: """
+>>> from ownlog.counting import stories_many, story_number, story_of
+>>> late = [('a', 4), ('b', 2), ('c', 3)]
+>>> [stories_many('abc', late, 2), story_of('abc', late, 2, 1), story_number('abc', [1, 3]), stories_many('abb', late, 2)]
+[2, [1, 4], 0, 0]
+""",
+    50: """
+>>> from ownlog.elders import elder, elders
+>>> [elder('aabaabccc'), elder('aaa'), elders('abc'), elders('aaabaaabaaa')]
+[('aabcc', [3]), ('aa', [0, 1]), [], [('aabaaa', [1]), ('aaabaa', [4])]]
+""",
+    51: """
+>>> from ownlog.elders import are_obstacles, obstacles
+>>> [obstacles('abc'), obstacles('ab'), are_obstacles('abc', [(0, 1, 2), (1, 0, 1)])]
+[[(0, 1, 2), (1, 0, 1)], [], True]
+""",
+    52: """
+>>> from ownlog.pasts import past, pasts
+>>> [past('aabaabccc'), past('ab'), pasts('aaa')]
+[('abc', [1, 3]), ('ab', []), [('aa', [0]), ('aa', [1])]]
+>>> past('aaabaaabaaa')
+raises Several(2)
+""",
+    53: """
+>>> from ownlog.far import Far
+>>> from ownlog.pasts import far_past, same
+>>> [far_past(Far('aabcc', [3])), same(Far('aabcc', [3]), Far('abc', [1, 3])), same(Far('abc', [2]), Far('abc', [1]))]
+[('abc', [1, 3]), True, False]
+""",
 }
 
 

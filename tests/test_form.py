@@ -18,6 +18,9 @@ FUNCTIONS = {
                 "copy_at(far, place, number)", "copies_before(far, place, stop)"],
     "tallies": ["tally(row)", "far_tally(far)", "tally_after(tally, letters)", "tally_before(tally)",
                 "most_called(tally)", "called(tally, calls)"],
+    "counting": ["stories_many(row, tally, calls)", "story_of(row, tally, calls, number)", "story_number(row, story)"],
+    "elders": ["elders(row)", "elder(row)", "obstacles(row)", "are_obstacles(row, thing)"],
+    "pasts": ["past(row)", "pasts(row, *, limit=400)", "far_past(far)", "same(one, other)"],
 }
 LIBRARY = ["heapq", "math", "itertools", "collections"]
 METHODS = {

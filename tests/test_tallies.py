@@ -7,15 +7,10 @@ from ownlog.far import Far
 from ownlog.kinds import is_tally
 from ownlog.reading import count_before
 from ownlog.tallies import called, far_tally, most_called, tally, tally_after, tally_before
-from tests.helper import LETTERS, chance, random_row, random_story, same_after, written
+from tests.helper import LETTERS, chance, counted, random_row, random_story, same_after, written
 from tests.test_far import LONGEST, far_ones, samples
 
 GREATEST = 10 ** 40
-
-
-def counted(row):
-    """The tally of a row, letter by letter of the alphabet."""
-    return [(letter, row.count(letter)) for letter in LETTERS if row.count(letter) > 0]
 
 
 def random_tally(numbers, letters, most):
