@@ -185,6 +185,18 @@ class Long(unittest.TestCase):
                 self.assertEqual(stories_many(row, other, 64) > 0, expected)
             self.assertTrue(row == LONGEST or min(found.values()) > 0)
 
+    def test_somewhat_more_than_64_calls_are_no_error(self):
+        story = random_story(chance(424), "abc", 67)
+        late = [("a", 2 ** 67), ("b", 2 ** 67), ("c", 2 ** 67)]
+        self.assertEqual(stories_many("abc", late, 67), 0)
+        # The last place is called by each call, so there is just one c, and an a and a b for each other place.
+        lasts = [2 * 2 ** at for at in range(67)]
+        late = [("a", 2 ** 67), ("b", 2 ** 67), ("c", 1)]
+        self.assertEqual(stories_many("abc", late, 67), 1)
+        self.assertEqual(story_of("abc", late, 67, 0), lasts)
+        self.assertEqual(story_number("abc", lasts), 0)
+        self.assertGreaterEqual(story_number("abc", story), 0)
+
     def test_great_tallies_that_are_not_reached(self):
         for late in ([("a", 10 ** 40), ("b", 1)], [("a", 10 ** 40)], [("b", 2 ** 130), ("c", 1)]):
             for calls in (0, 1, 2, 63, 64):

@@ -94,6 +94,53 @@ raises Several(2)
 >>> [far_past(Far('aabcc', [3])), same(Far('aabcc', [3]), Far('abc', [1, 3])), same(Far('abc', [2]), Far('abc', [1]))]
 [('abc', [1, 3]), True, False]
 """,
+    60: """
+>>> from ownlog.joints import joint_step, joints
+>>> [joint_step('abaca'), joints('ababa'), joints('ab'), joint_step('aaaa')]
+[4, [0, 2, 4], [], 1]
+""",
+    61: """
+>>> from ownlog.joints import classes
+>>> classes('ababa')
+[[0, 2, 4], [1], [3]]
+""",
+    62: """
+>>> from ownlog.twins import root, twins
+>>> [root('abab'), root('aab'), twins('aab', 1, 4, 5)]
+['ab', 'aab', ('aabaaa', 'aaabaa')]
+>>> twins('aab', 1, 4, 6)
+raises NoTwins(4)
+""",
+    63: """
+>>> from ownlog.twins import are_twins, partners
+>>> [partners('aabaaa', 1), partners('aabaaa', 0), are_twins('aaabaa', 4, 'aabaaa', 1, 'aab')]
+[[('aaabaa', 4, 'aab')], [], True]
+""",
+    64: """
+>>> from ownlog.twins import triple
+>>> triple('aaba', 1, 5, 10)
+('aabaaaabaaa', 'aaabaaabaaa', 'aaabaaaabaa')
+""",
+    70: """
+>>> from ownlog.numbering import rows_many, seeds_many
+>>> [rows_many(2, 5, 0), rows_many(2, 5, 1), rows_many(3, 5, 2), seeds_many(2, 5), seeds_many(3, 4)]
+[16, 12, 36, 4, 54]
+""",
+    71: """
+>>> from ownlog.numbering import number_of, row_of
+>>> [row_of(2, 5, 2, 0), number_of(2, 'aabbb', 2), number_of(2, 'aabba', 1), number_of(2, 'ba', 0)]
+['abbbb', 1, None, 1]
+""",
+    72: """
+>>> from ownlog.order import greatest_story, least_story, sorted_calls
+>>> [sorted_calls('abc'), least_story('abc', 2), greatest_story('ab', 1)]
+[[1, 2, 0], [1, 2], [0]]
+""",
+    73: """
+>>> from ownlog.order import differences, first_difference, last_difference
+>>> [first_difference('abc', 'bbc', [1]), last_difference('abc', 'bbc', [1]), differences('abc', 'bbc', [1])]
+[0, 1, 2]
+""",
 }
 
 

@@ -21,6 +21,14 @@ FUNCTIONS = {
     "counting": ["stories_many(row, tally, calls)", "story_of(row, tally, calls, number)", "story_number(row, story)"],
     "elders": ["elders(row)", "elder(row)", "obstacles(row)", "are_obstacles(row, thing)"],
     "pasts": ["past(row)", "pasts(row, *, limit=400)", "far_past(far)", "same(one, other)"],
+    "joints": ["joint_step(row)", "joints(row)", "classes(row)"],
+    "twins": ["root(text)", "twins(word, one, other, last)", "partners(row, place)",
+              "are_twins(row, place, other, its, word)", "triple(word, one, other, last)"],
+    "numbering": ["rows_many(letters, length, calls)", "seeds_many(letters, length)",
+                  "row_of(letters, length, calls, number)", "number_of(letters, row, calls)"],
+    "order": ["sorted_calls(row)", "least_story(row, calls)", "greatest_story(row, calls)",
+              "first_difference(row, other, story)", "last_difference(row, other, story)",
+              "differences(row, other, story)"],
 }
 LIBRARY = ["heapq", "math", "itertools", "collections"]
 METHODS = {
