@@ -30,6 +30,30 @@ def called_letters(row, calls):
     return "".join(letters)
 
 
+def spans_before(last, called, low, high):
+    """Return the spans of the row before a call that the places from low to before high show, in their order.
+
+    last is the last place of the row before the call. What a call makes is what stands before the called place,
+    then the whole row, then what stands after the called place.
+    """
+    first = shown(last, called, low)
+    # Over a cut between these pieces the shown places jump, so here is none.
+    if shown(last, called, high - 1) - first == high - 1 - low:
+        return [(first, first + high - low)]
+    pieces = ((0, called, 0), (called, called + last + 1, called), (called + last + 1, 2 * last + 1, last))
+    return [(max(low, start) - back, min(high, stop) - back) for start, stop, back in pieces
+            if max(low, start) < min(high, stop)]
+
+
+def text_between(row, calls, start, stop):
+    """Return the text of the row that the calls have made, from the place start to before the place stop."""
+    spans = [(start, stop)]
+    for at in reversed(range(len(calls))):
+        last = (len(row) - 1) << at
+        spans = [span for low, high in spans for span in spans_before(last, calls[at], low, high)]
+    return "".join([row[low:high] for low, high in spans])
+
+
 class Far:
     """The long row to which a row leads by a story."""
 
@@ -74,7 +98,7 @@ class Far:
             raise TooLong(MOST_LETTERS)
         if start + many > self.length():
             raise NoPlace(start)
-        return "".join([self.letter(place) for place in range(start, start + many)])
+        return text_between(self._row, self._story, start, start + many)
 
     def called(self):
         """Return the called letters, in the order of the calls."""

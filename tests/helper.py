@@ -203,3 +203,48 @@ def same_after(test, function, *arguments):
     result = function(*arguments)
     test.assertEqual(arguments, before)
     return result
+
+
+def places_in(text, pattern):
+    """The places of a written text at which a pattern occurs, by a look at each place."""
+    return [at for at in range(len(text)) if text[at:at + len(pattern)] == pattern]
+
+
+def pattern_counter(row, calls, pattern):
+    """The function that counts the places before a stop at which a pattern occurs in a long row.
+
+    What starts in a piece of a call ends in it, or is looked at letter by letter.
+    """
+    letters = {}
+    counts = {}
+    many = len(pattern)
+
+    def length(level):
+        return (len(row) - 1) * 2 ** level + 1
+
+    def letter(level, place):
+        if level == 0:
+            return row[place]
+        if (level, place) not in letters:
+            older = old_place(length(level - 1) - 1, calls[level - 1], place)
+            letters[level, place] = letter(level - 1, older)
+        return letters[level, place]
+
+    def starts(level, place):
+        return place + many <= length(level) and all(letter(level, place + at) == pattern[at] for at in range(many))
+
+    def count(level, stop):
+        if level == 0:
+            return len([place for place in range(min(stop, len(row))) if starts(0, place)])
+        if (level, stop) not in counts:
+            total = 0
+            for start, old, size in pieces(length(level - 1) - 1, calls[level - 1]):
+                inner = max(0, size - many + 1)
+                taken = min(inner, stop - start)
+                if taken > 0:
+                    total += count(level - 1, old + taken) - count(level - 1, old)
+                total += len([at for at in range(start + inner, min(stop, start + size)) if starts(level, at)])
+            counts[level, stop] = total
+        return counts[level, stop]
+
+    return lambda stop: count(len(calls), stop)

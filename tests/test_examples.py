@@ -141,6 +141,47 @@ raises NoTwins(4)
 >>> [first_difference('abc', 'bbc', [1]), last_difference('abc', 'bbc', [1]), differences('abc', 'bbc', [1])]
 [0, 1, 2]
 """,
+    80: """
+>>> from ownlog.far import Far
+>>> from ownlog.patterns import first_from, occurrences, occurrences_before, pattern_place
+>>> far = Far('abc', [1, 3])
+>>> [occurrences(far, 'aab'), occurrences_before(far, 'aab', 3), pattern_place(far, 'aab', 1), first_from(far, 'cc', 7)]
+[2, 1, 3, 7]
+""",
+    81: """
+>>> from ownlog.far import Far
+>>> from ownlog.patterns import next_letters, pairs
+>>> far = Far('abc', [1, 3])
+>>> [pairs(far), next_letters(far, 'a'), next_letters(far, 'ccc')]
+[[('aa', 2), ('ab', 2), ('ba', 1), ('bc', 1), ('cc', 2)], 'ab', '']
+""",
+    82: """
+>>> from ownlog.far import Far
+>>> from ownlog.runs import longest_run, runs_many
+>>> far = Far('abc', [1, 3])
+>>> [longest_run(far, 'c'), longest_run(far, 'a'), runs_many(far, 'a'), longest_run(far, 'd')]
+[(3, 6), (2, 0), 2, (0, None)]
+""",
+    90: """
+>>> from ownlog.wishes import base_stories
+>>> [base_stories('ab', 2), base_stories('abc', 2), len(base_stories('ab', 12))]
+[[[0], [1]], [[]], 270]
+""",
+    92: """
+>>> from ownlog.wishes import ends
+>>> [ends('abc', 'cb'), ends('abc', 'bcc')[0]]
+[('never', [([], ['c'])]), 'story']
+""",
+    94: """
+>>> from ownlog.wishes import shortest
+>>> [shortest('abc', 'aab', 'begin'), shortest('abc', 'ca', 'stand'), shortest('abc', 'ac', 'stand')]
+[[1], [0, 3], None]
+""",
+    95: """
+>>> from ownlog.wishes import together
+>>> [together('abcd', 'aab', ['dab'], 'cdd')[0], together('abcd', 'aab', ['ac'], 'cdd'), together('abcd', 'a', [], 'ca')]
+['story', ('never', 1), ('never', 1)]
+""",
 }
 
 

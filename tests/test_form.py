@@ -29,6 +29,12 @@ FUNCTIONS = {
     "order": ["sorted_calls(row)", "least_story(row, calls)", "greatest_story(row, calls)",
               "first_difference(row, other, story)", "last_difference(row, other, story)",
               "differences(row, other, story)"],
+    "patterns": ["occurrences(far, pattern)", "occurrences_before(far, pattern, stop)",
+                 "pattern_place(far, pattern, number)", "first_from(far, pattern, start)", "pairs(far)",
+                 "next_letters(far, pattern)"],
+    "runs": ["longest_run(far, letter)", "runs_many(far, letter)"],
+    "wishes": ["base_stories(row, size)", "begins(row, text)", "ends(row, text)", "stands(row, text)",
+               "shortest(row, text, where, *, limit=400)", "together(row, beginning, insides, end)"],
 }
 LIBRARY = ["heapq", "math", "itertools", "collections"]
 METHODS = {
