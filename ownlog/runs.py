@@ -67,7 +67,7 @@ def cuts_before(last, calls):
     for at in reversed(range(len(calls))):
         last_then = last << at
         places = [shown(last_then, calls[at], cut) for cut in cuts[-1]]
-        places.extend([0, calls[at], calls[at] + 1])
+        places.extend([calls[at], calls[at] + 1])
         cuts.append(sorted(set([place for place in places if place <= last_then])))
     return list(reversed(cuts))
 

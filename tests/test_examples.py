@@ -167,10 +167,22 @@ raises NoTwins(4)
 >>> [base_stories('ab', 2), base_stories('abc', 2), len(base_stories('ab', 12))]
 [[[0], [1]], [[]], 270]
 """,
+    91: """
+>>> from ownlog.tables import shows_no_beginning
+>>> from ownlog.wishes import begins
+>>> [begins('abc', 'ba'), shows_no_beginning('abc', 'ba', [([], ['a'])]), shows_no_beginning('abc', 'ba', [([], [])])]
+[('never', [([], ['a'])]), True, False]
+""",
     92: """
 >>> from ownlog.wishes import ends
 >>> [ends('abc', 'cb'), ends('abc', 'bcc')[0]]
 [('never', [([], ['c'])]), 'story']
+""",
+    93: """
+>>> from ownlog.tables import shows_no_place
+>>> from ownlog.wishes import stands
+>>> [stands('abc', 'ac'), stands('abc', 'ca')[0], shows_no_place('abc', 'ac', [([], [0], [2])])]
+[('never', [([], [0], [2])]), 'story', True]
 """,
     94: """
 >>> from ownlog.wishes import shortest
@@ -181,6 +193,30 @@ raises NoTwins(4)
 >>> from ownlog.wishes import together
 >>> [together('abcd', 'aab', ['dab'], 'cdd')[0], together('abcd', 'aab', ['ac'], 'cdd'), together('abcd', 'a', [], 'ca')]
 ['story', ('never', 1), ('never', 1)]
+""",
+    100: """
+>>> from ownlog.books import Book
+>>> book = Book('aabcc')
+>>> [book.call(3), book.row(), book.back(), book.back(), book.row(), book.follow([1, 3]), book.unwind(), book == Book('abc')]
+['c', 'aabaabccc', [3], [1], 'abc', 'bc', 2, True]
+>>> Book('abc').back()
+raises NoElder()
+""",
+    101: """
+>>> from ownlog.far import Far
+>>> from ownlog.notation import read_far, read_tally, show_far, show_tally
+>>> [show_far(Far('abc', [1, 3])), read_far('ab'), show_tally([('a', 4), ('c', 12)]), read_tally('a4 c12')]
+['abc 1 3', Far('ab', []), 'a4 c12', [('a', 4), ('c', 12)]]
+>>> read_far('abc 1 5')
+raises NoText(2)
+""",
+    102: """
+>>> from ownlog.console import Console
+>>> console = Console()
+>>> [console.say('row aabcc'), console.say('call 3'), console.say('past'), console.say('unwind'), console.say('show')]
+['aabcc', 'c', 'abc 1 3', '2', 'abc']
+>>> [console.say('stands ca'), console.say('begins ba'), console.say('tally')]
+['yes', 'never', 'a1 b1 c1']
 """,
 }
 

@@ -35,12 +35,18 @@ FUNCTIONS = {
     "runs": ["longest_run(far, letter)", "runs_many(far, letter)"],
     "wishes": ["base_stories(row, size)", "begins(row, text)", "ends(row, text)", "stands(row, text)",
                "shortest(row, text, where, *, limit=400)", "together(row, beginning, insides, end)"],
+    "tables": ["shows_no_beginning(row, text, thing)", "shows_no_end(row, text, thing)",
+               "shows_no_place(row, text, thing)"],
+    "notation": ["show_far(far)", "read_far(text)", "show_tally(tally)", "read_tally(text)"],
 }
 LIBRARY = ["heapq", "math", "itertools", "collections"]
 METHODS = {
     ("far", "Far"): ["__init__(self, row, story)", "row(self)", "story(self)", "length(self)", "letter(self, place)",
                      "origins(self, place)", "piece(self, start, many)", "called(self)", "after(self, place)",
                      "__eq__(self, other)", "__repr__(self)"],
+    ("books", "Book"): ["__init__(self, row)", "row(self)", "copied(self)", "call(self, place)", "follow(self, calls)",
+                        "back(self)", "unwind(self)", "__eq__(self, other)", "__len__(self)"],
+    ("console", "Console"): ["__init__(self)", "say(self, line)"],
 }
 
 
