@@ -122,12 +122,19 @@ def inside_way(base, text, heads, tails):
 
 
 class Growing:
-    """What calls make of a base row: the calls, the last place, and the place at which the base row stands in it."""
+    """What calls make of a base row: the calls, the last place, and the place at which the base row stands in it.
+
+    A call keeps as many letters of the beginning, and of the end, as stand before, and after, the called place. The
+    first three calls make room on either side of the base row. They keep as many letters as its last place says,
+    and so do all calls in or beside it from then on.
+    """
 
     def __init__(self, last):
         self.calls = []
         self.last = last
         self.start = 0
+        for place in (last, last, 2 * last):
+            self.call(place)
 
     def call(self, place):
         """Do a call of a place."""
@@ -135,33 +142,20 @@ class Growing:
         self.start = self.start + place
         self.last = 2 * self.last
 
-
-def with_room(last):
-    """Return what three calls make of a base row with this last place, so that there is room on either side of it.
-
-    A call keeps as many letters of the beginning, and of the end, as stand before, and after, the called place.
-    These calls keep as many as the last place says, and so do all calls in or beside the base row from then on.
-    """
-    growing = Growing(last)
-    for place in (last, last, 2 * last):
-        growing.call(place)
-    return growing
-
-
-def make_inside(growing, way):
-    """Do the calls that make a text stand in a row that has room."""
-    place, many, heads, tails = way
-    at = growing.start + place
-    for length in reversed(heads):
-        # The whole row, and then what stands from this place on: so this stands after the end of the row.
-        again = growing.last + at
-        growing.call(at - 1)
-        at = again - length
-        many = many + length
-    for length in tails:
-        # What stands up to here, and then the whole row: so this stands before the beginning of the row.
-        growing.call(at + many)
-        many = many + length
+    def take_in(self, way):
+        """Do the calls after which a text stands in the row."""
+        place, many, heads, tails = way
+        at = self.start + place
+        for length in reversed(heads):
+            # The whole row, and then what stands from this place on: so this stands after the end of the row.
+            again = self.last + at
+            self.call(at - 1)
+            at = again - length
+            many = many + length
+        for length in tails:
+            # What stands up to here, and then the whole row: so this stands before the beginning of the row.
+            self.call(at + many)
+            many = many + length
 
 
 def inside_calls(last, way):
@@ -169,8 +163,8 @@ def inside_calls(last, way):
     _, _, heads, tails = way
     if not heads and not tails:
         return []
-    growing = with_room(last)
-    make_inside(growing, way)
+    growing = Growing(last)
+    growing.take_in(way)
     return growing.calls
 
 
@@ -227,9 +221,9 @@ def together(row, beginning, insides, end):
     found = [first, *ways, final]
     if None in found:
         return "never", found.index(None)
-    growing = with_room(last)
+    growing = Growing(last)
     for way in ways:
-        make_inside(growing, way)
+        growing.take_in(way)
     for place in first:
         growing.call(place)
     for place in final:
